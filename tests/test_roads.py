@@ -78,6 +78,16 @@ class FrameByTest(unittest.TestCase, Raising):
 
 
 class WrongRoadTest(unittest.TestCase):
+    def test_any_values_are_answered(self):
+        method = of_code((("push", 1), ("none",), ("add",), ("give",)))
+        at_once = of_code((("add",), ("give",)))
+        for value in STRAY:
+            self.assertIs(is_wrong_road(*method, value), False)
+            self.assertIs(is_wrong_road(*at_once, value), value == ())
+            for road in [(value,), ((1, -1), value), ((1, -1), (2, value)), ((1, -1), (value, -1)), [value]]:
+                if road != ((1, -1), (2, -1)):
+                    self.assertIs(is_wrong_road(*method, road), False)
+
     def test_wrong_at_once(self):
         method = of_code((("add",), ("give",)))
         self.assertEqual(wrong_road(*method), ())

@@ -427,12 +427,14 @@ class NamesTest(unittest.TestCase):
             ("go", (), "num", (SELF, ("push", 5), ("put", "copy", "give"), SELF, ("call", "copy", "keep"), GIVE), ()),
             ("keep", (), "num", (("new", "throw"), ("get", "copy", "throw"), ("drop",), SELF, ("get", "copy", "give"), GIVE), ()))),
         ("throw", "copy", (), (("num", (), "copy", (("new", "copy"), ("cast", "copy"), ("is", "throw"), ("if", 5),
-                                                    ("go", 5), ("none",), GIVE), ()),))))
+                                                    ("go", 5), ("none",), GIVE), ()),)),
+        ("give", "top", (), (("add", (), "num", (("new", "give"), ("cast", "give"), ("is", "give"), GIVE), ()),))))
 
     def test_runs(self):
         self.assertEqual(run(self.HOUSE, "copy", "go", ()), ("gives", 5))
         self.assertEqual(things_of(self.HOUSE, "copy", "go", ()), ("copy", "throw"))
         self.assertEqual(run(self.HOUSE, "throw", "num", ()), ("gives", None))
+        self.assertEqual(run(self.HOUSE, "give", "add", ()), ("gives", 1))
 
     def test_the_checker(self):
         self.assertEqual(not_let(self.HOUSE), [])

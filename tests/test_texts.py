@@ -235,6 +235,14 @@ class ReadTest(unittest.TestCase, Raising):
         self.bad(HEAD[:4], 5, 1)
         self.bad(HEAD[:3] + ["give", "none"], 6, 1)
         self.bad(HEAD + ["method hop num"], 7, 1)
+        self.bad(HEAD + ["method hop num", "none"], 8, 1)
+        self.bad(HEAD + ["class egg under top", "method hop num", "none"], 9, 1)
+
+    def test_the_last_method_is_the_one_that_must_be_whole(self):
+        for lines in [["method hop num", "none"], ["class egg under top", "method hop num", "none"],
+                      ["class egg under top", *HEAD[2:], "method hop num", "none"]]:
+            for line in ["method roll num", "class red under top", "catch 0 1 top 0"]:
+                self.bad(HEAD + lines + [line], len(HEAD + lines) + 1, 1)
 
     def test_the_first_line_is_told(self):
         self.bad(["class box under top", "field x", "class egg", "hop"], 2, 3)
