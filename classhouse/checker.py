@@ -6,6 +6,7 @@ from classhouse.frames import does_frame_fit, frame_ahead, is_frame, turns_of
 from classhouse.lookup import method_at
 from classhouse.order import join_of
 from classhouse.roads import is_wrong_road, wrong_road
+from classhouse.steps import goals_in
 from classhouse.words import is_tuple
 
 
@@ -113,14 +114,6 @@ def shows_verdict(house, name, place, value):
     if value[0] == "table":
         return shows_table(house, name, place, value[1])
     return value[0] == "road" and is_wrong_road(house, name, place, value[1])
-
-
-def goals_in(method):
-    """The ascending tuple of the goals of the gos, ifs and handlers of a method."""
-    goals = {step[1] for step in method[3] if step[0] in ("go", "if")}
-    for handler in method[4]:
-        goals.add(handler[3])
-    return tuple(sorted(goals))
 
 
 def jumped_to(house, name, place):

@@ -1,8 +1,8 @@
 """The errors of the arguments that several functions take, raised in the order of the arguments."""
 
-from classhouse.errors import BadKind, BadName, BadPlace, BadWord, NoHouse, NotSeen
+from classhouse.errors import BadKind, BadName, BadPlace, BadStep, BadWord, NoHouse, NotSeen
 from classhouse.houses import House
-from classhouse.lookup import class_of, is_class, nearest
+from classhouse.lookup import class_of, is_class, method_at, nearest
 from classhouse.order import is_kind
 from classhouse.words import is_number, is_word
 
@@ -46,3 +46,10 @@ def check_place(house, name, place):
     check_name(house, name)
     if not is_number(place, len(class_of(house.classes, name)[3]) - 1):
         raise BadPlace("no method of the class")
+
+
+def check_step(house, name, place, step):
+    """Raises what check_place does, or BadStep unless a value is a step of the method's code."""
+    check_place(house, name, place)
+    if not is_number(step, len(method_at(house.classes, name, place)[3]) - 1):
+        raise BadStep("no step of the code")

@@ -1,11 +1,11 @@
 """Frames of kinds, and what the steps of methods make of them (points 17 and 18)."""
 
-from classhouse.checks import check_place
-from classhouse.errors import BadFrame, BadStep
+from classhouse.checks import check_place, check_step
+from classhouse.errors import BadFrame
 from classhouse.lookup import field_kind, method_at, nearest_method
 from classhouse.order import does_fit, is_kind
-from classhouse.steps import covers
-from classhouse.words import is_number, is_tuple
+from classhouse.steps import covers, goals_of
+from classhouse.words import is_tuple
 
 MOST_ON_STACK = 6
 
@@ -101,18 +101,6 @@ def frame_made(classes, method, step, frame):
     return cells, made
 
 
-def goals_of(code, index):
-    """The steps to which a step turns without a fault, each once."""
-    word = code[index][0]
-    if word in ("give", "throw"):
-        return ()
-    if word == "go":
-        return (code[index][1],)
-    if word == "if" and code[index][1] != index + 1:
-        return index + 1, code[index][1]
-    return (index + 1,)
-
-
 def turns_of(classes, method, index, frame):
     """The ascending list of the pairs (turn, frame) of a step on a frame, None if it goes wrong."""
     code, handlers = method[3:]
@@ -140,10 +128,7 @@ def first_frame(house, name, place):
 
 def turns_from(house, name, place, step, frame):
     """The ascending list of the pairs (turn, frame) of a step on a frame, None if the step goes wrong."""
-    check_place(house, name, place)
-    method = method_at(house.classes, name, place)
-    if not is_number(step, len(method[3]) - 1):
-        raise BadStep("no step of the code")
+    check_step(house, name, place, step)
     if not is_frame(house.classes, frame):
         raise BadFrame("no frame")
-    return turns_of(house.classes, method, step, frame)
+    return turns_of(house.classes, method_at(house.classes, name, place), step, frame)

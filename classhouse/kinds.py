@@ -1,7 +1,7 @@
 """Classes above and below one another, and kinds that fit one another (points 4 and 5)."""
 
 from classhouse.checks import check_kind, check_name
-from classhouse.lookup import line_up
+from classhouse.lookup import line_down, line_up
 from classhouse.order import does_fit, first_common, join_of
 
 
@@ -14,8 +14,7 @@ def upward(house, name):
 def downward(house, name):
     """The tuple of the classes that have a class in their upward, "top" ahead, then in the order of the house."""
     check_name(house, name)
-    names = ["top"] + [row[0] for row in house.classes]
-    return tuple([below for below in names if name in line_up(house.classes, below)])
+    return line_down(house.classes, name)
 
 
 def common(house, one, other):

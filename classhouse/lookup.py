@@ -8,7 +8,12 @@ TOP = ("top", None, (), ())
 
 def is_class(classes, name):
     """Tells whether any value is a class, "top" among them."""
-    return name == "top" or name in [row[0] for row in classes]
+    return name in names_of(classes)
+
+
+def names_of(classes):
+    """The tuple of the names of all classes, "top" ahead."""
+    return ("top", *[row[0] for row in classes])
 
 
 def class_of(classes, name):
@@ -26,6 +31,11 @@ def line_up(classes, name):
         line.append(name)
         name = class_of(classes, name)[1]
     return (*line, "top")
+
+
+def line_down(classes, name):
+    """The tuple of the classes that have a class in their line up, "top" ahead, then in the order of the house."""
+    return tuple([below for below in names_of(classes) if name in line_up(classes, below)])
 
 
 def fields_up(classes, name):

@@ -25,6 +25,7 @@ class Machine:
         self.held = []
         self.printed = []
         self.calls = []
+        self.thrown = []
         self.met = {}
         self.done = 0
         self.end = None
@@ -111,6 +112,7 @@ class Machine:
     def throw(self, thing):
         """Throws a thing: the run goes on at a handler's goal, or ends."""
         line = self.line_of_thing(thing)
+        ahead = len(self.below) + 1
         goal = goal_of(self.method()[4], self.step, line)
         while goal is None and self.below:
             self.fall_back()
@@ -120,6 +122,7 @@ class Machine:
         else:
             self.step = goal
             self.stack = [thing]
+        self.thrown.append((self.done, line[0], ahead, 0 if goal is None else len(self.below) + 1))
 
 
 def does_value_fit(classes, things, value, kind):

@@ -90,3 +90,23 @@ def bad_handler(classes, many, handlers):
 def covers(handler, step):
     """Tells whether a handler covers a step."""
     return handler[0] <= step < handler[1]
+
+
+def goals_of(code, index):
+    """The steps to which a step turns without a fault, each once."""
+    word = code[index][0]
+    if word in ("give", "throw"):
+        return ()
+    if word == "go":
+        return (code[index][1],)
+    if word == "if" and code[index][1] != index + 1:
+        return index + 1, code[index][1]
+    return (index + 1,)
+
+
+def goals_in(method):
+    """The ascending tuple of the goals of the gos, ifs and handlers of a method."""
+    goals = {step[1] for step in method[3] if step[0] in ("go", "if")}
+    for handler in method[4]:
+        goals.add(handler[3])
+    return tuple(sorted(goals))

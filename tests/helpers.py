@@ -34,6 +34,10 @@ def strays(*kept):
                                                 for one in kept)]
 
 
+# Of these, the ones that are no tuples.
+NO_TUPLES = [value for value in STRAY if not isinstance(value, tuple)]
+
+
 def changed(value, path, part):
     """A tuple of tuples in which another part stands at a path of indexes."""
     if not path:
@@ -80,6 +84,11 @@ def family_with(code, handlers=(), ins=(), out="num", name="box"):
 def place_of_test(house, name="box"):
     """The place of the method "test" that family_with adds."""
     return [len(row[3]) - 1 for row in house.classes if row[0] == name][0]
+
+
+def tiny(word, ins=(), out="num"):
+    """A method with the shortest code."""
+    return word, ins, out, (("go", 0),), ()
 
 
 class Maker:
@@ -165,6 +174,47 @@ class Maker:
                 made = method[:3] + (code, self.handlers(shell, len(code)))
                 rows = changed(rows, (index, 3, place), made)
         return House(rows)
+
+    def grown(self, house):
+        """A house into which another one grows by further fields and methods, and other codes."""
+        rows = []
+        for index, (name, upper, fields, methods) in enumerate(house.classes):
+            if self.chance.randint(0, 2) == 0:
+                fields = fields + ((name + "n", self.chance.choice(["num", "top", name])),)
+            forms = forms_above(tuple(rows), upper)
+            for word in self.chance.sample(["show", "hop", "roll", "extra"], self.chance.randint(0, 2)):
+                barred = [method[0] for method in methods] + words_further(house, name)
+                if word not in barred and len(methods) < 4:
+                    methods = methods + (tiny(word, *forms.get(word, ())),)
+            rows.append((name, upper, fields, methods))
+        return House(tuple(rows))
+
+
+def forms_above(rows, upper):
+    """The ins and outs of the words that are seen in a class of some rows."""
+    forms = {}
+    while upper != "top":
+        row = [row for row in rows if row[0] == upper][0]
+        for method in row[3]:
+            forms[method[0]] = method[1:3]
+        upper = row[1]
+    return forms
+
+
+def words_further(house, name):
+    """The words of which classes right below a class, or below these, have methods that it does not see."""
+    below = [row for row in house.classes if name in uppers(house, row[0]) and row[0] != name]
+    seen = seen_words(house, name, True)
+    return [method[0] for row in below for method in row[3] if method[0] not in seen]
+
+
+def uppers(house, name):
+    """The classes from a class up to "top"."""
+    line = []
+    while name != "top":
+        line.append(name)
+        name = [row[1] for row in house.classes if row[0] == name][0]
+    return line + ["top"]
 
 
 def seen_words(house, name, of_methods):
