@@ -73,8 +73,9 @@ def seen_by_all(house, names):
 
 def closed_words(house, words):
     """The lot of the words that all classes of who_has see, all words of the house if there is no such class."""
+    names = who_has(house, words)
     # Of no classes, words_of_all tells all words of the house.
-    return words_of_all(house.classes, who_has(house, words))
+    return words_of_all(house.classes, names)
 
 
 def closed_lots(house):
