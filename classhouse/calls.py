@@ -86,7 +86,8 @@ def paper_of(classes, choice, kinds):
     if index is not None:
         return "one", index
     pairs = [(one, other) for one in found for other in found if one < other]
-    return ("two", *[pair for pair in pairs if are_double(classes, choice, found, pair[0], pair[1])][0])
+    doubles = [pair for pair in pairs if are_double(classes, choice, found, pair[0], pair[1])]
+    return ("two", *doubles[0])
 
 
 def choice_paper(house, choice, kinds):
@@ -116,7 +117,7 @@ def first_double(house, choice):
     rows = [()]
     for _ in range(3):
         # Of no kinds there is but one option, so that none of these is missed.
-        rows = [(*kinds, name) for kinds in rows for name in names]
+        rows = [(*row, name) for row in rows for name in names]
         for kinds in rows:
             if paper_of(house.classes, choice, kinds)[0] == "two":
                 return kinds

@@ -65,7 +65,7 @@ def unwound(house, pile, kind):
     """The pair (index, goal) of the uppermost spot at which things of a class are caught, None if there is none."""
     check_pile(house, pile)
     check_name(house, kind)
-    for index in range(len(pile))[::-1]:
+    for index in reversed(range(len(pile))):
         name, place, step = pile[index]
         method = method_at(house.classes, name, place)
         row = row_for(house.classes, method, step, kind)

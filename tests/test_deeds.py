@@ -164,6 +164,9 @@ class DeedsEndTest(unittest.TestCase, Raising):
         self.check(deeds, (1, 0, 0), ("throws", "egg"), (5, 5), (1, 1, 1, 0, 0, 0, 0, 0))
         self.check(deeds, (0, 0, 0), ("gives", 0), (5,) * 5, (1, 1, 0, 1, 1, 1, 0, 1))
         self.assertEqual(last_counts((PRINT,), (0, 0, 0)), ())
+        deeds = (("try", (leaf, ("if", 1, (leaf, ("throw", "red")), (leaf,)), leaf), "egg", (leaf, ("give", 1), leaf)), leaf)
+        self.check(deeds, (1, 0, 0), ("gives", 1), (5, 5, 5), (1, 1, 0, 0, 1, 0, 0))
+        self.check(deeds, (0, 0, 0), ("gives", 0), (5, 5, 5, 5), (1, 0, 1, 1, 0, 0, 1))
 
     def test_made_deeds_by_another_way(self):
         for seed in range(600):
@@ -241,6 +244,17 @@ class DeedsHouseTest(unittest.TestCase, Raising):
         other = ("try", (PRINT,), "egg", (("last", (("print", 1),), ()), one))
         self.assertEqual(steps_needed((other, ("last", (one,), ()))), 20)
         self.raises(TooMany, deeds_house, (other, ("last", (one,), ())), most=4)
+
+    def test_handlers_in_ifs_are_counted(self):
+        three = ("try", (("try", (("try", (("throw", "red"),), "box", ()),), "red", ()),), "egg", ())
+        one = ("try", (("throw", "box"),), "box", ())
+        for part in [(one,), (("last", (one,), ()),)]:
+            for deeds in [(three, ("if", 1, part, ())), (three, ("if", 1, (), part)), (("if", 1, part, ()), three)]:
+                if part == (one,):
+                    self.check(deeds, 17, 4)
+                else:
+                    self.assertEqual(steps_needed(deeds), 19)
+                    self.raises(TooMany, deeds_house, deeds, most=4)
 
     def test_both_too_many(self):
         three = ("try", (("try", (("try", (("throw", "red"),), "box", ()),), "red", ()),), "egg", ())

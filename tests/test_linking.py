@@ -54,6 +54,17 @@ class PoolTest(unittest.TestCase, Raising):
         self.assertEqual(pooled(HOUSE, "egg", 2), (("new", 9), ("new", 7), ("give",)))
         self.assertEqual(pooled(HOUSE, "red", 0), (("push", 2), ("give",)))
 
+    def test_words_of_steps_may_be_names(self):
+        code = (("new", "get"), ("get", "call", "new"), ("call", "get", "put"), ("take", 0), ("cast", "new"), ("give",))
+        house = House((("get", "top", (), (("put", (), "num", code, ((0, 1, "call", 0),)),)),
+                       ("call", "top", (("new", "num"),), ()), ("new", "top", (), ())))
+        self.assertEqual(pool(house, "get"), (("class", "get"), ("field", "call", "new"), ("method", "get", "put"),
+                                              ("class", "new"), ("class", "call")))
+        told = pooled(house, "get", 0)
+        self.assertEqual(told, (("new", 0), ("get", 1), ("call", 2), ("take", 0), ("cast", 3), ("give",)))
+        self.assertEqual(unpooled(pool(house, "get"), told), code)
+        self.assertEqual(link_table(house, "get"), (1, ("call", 0), ("get", 0), 3, 2))
+
     def test_codes_come_back(self):
         for seed in range(40):
             house = Maker(seed).house(14)
@@ -112,7 +123,7 @@ class UnpooledTest(unittest.TestCase, Raising):
             self.raises(BadPool, unpooled, value, (), index=None)
 
     def test_what_is_no_entry(self):
-        wrong = [("class",), ("class", "a", "b"), ("field", "a"), ("method", "a"), ("field", "a", "b", "c"), ("a", "b"),
+        wrong = [("class",), ("field",), ("method",), (), ("class", "a", "b"), ("field", "a"), ("method", "a"), ("field", "a", "b", "c"), ("a", "b"),
                  ("Class", "a"), ("class", "A"), ("class", "sevenly"), ("class", ""), ("field", "a", 1),
                  ("method", None, "a"), ("method", "a", ["b"]), ["class", "a"], "class", (["class"], "a"), ("class", 1)]
         for value in wrong + STRAY:

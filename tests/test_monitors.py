@@ -149,6 +149,16 @@ class PlainTest(unittest.TestCase, Raising):
                 self.raises(NotPlain, shows_astray, house, "box", "test", value)
                 self.raises(NotPlain, shows_table, house, "box", "test", value)
 
+    def test_words_of_steps_may_be_names(self):
+        names = ("enter", "leave", "keep", "throw", "give")
+        classes = tuple((name, "top", ((name, "num"),), ()) for name in names)
+        code = ENTER + tuple(step for name in names for step in [("new", name), ("get", name, name), ("drop",)])
+        method = ("give", (), "num", code + (("go", 17),), ())
+        house = House((*classes[:-1], classes[-1][:3] + ((method,),)))
+        self.assertTrue(is_plain(house, "give", "give"))
+        self.assertEqual(holds_met(house, "give", "give"), ((ZERO,),) * 2 + (((1, 0, 0, 0),),) * 16)
+        self.assertEqual([astray_road(house, "give", "give"), to_ends(house, "give", "give")], [None, ()])
+
     def test_the_nearest_method_is_told(self):
         house = family_with(ENTER + LEAVE + GIVE)
         self.assertEqual(hold_table(house, "pink", "test"), hold_table(house, "box", "test"))
@@ -399,7 +409,8 @@ class ShowsTableTest(unittest.TestCase):
                 self.assertIs(shows_table(*args, (value, ZERO)), False)
                 self.assertIs(shows_table(*args, (ZERO, value)), False)
         loop = (family_with((("go", 0), ("go", 1))), "box", "test")
-        for value in strays(None) + [(0, 0, 0, 7), (0, 0, 0, -1), (0, 0, 0, True), [0, 0, 0, 0], (0, 0, 0)]:
+        for value in strays(None) + [(0, 0, 0, 7), (0, 0, 0, -1), (0, 0, 0, True), [0, 0, 0, 0], (0, 0, 0),
+                                     (0, 0, 0, 0, 0)]:
             self.assertIs(shows_table(*loop, (ZERO, value)), False)
         self.assertIs(shows_table(*loop, (ZERO, (0, 6, 0, 1))), True)
         self.assertIs(shows_table(*loop, (ZERO, None)), True)
