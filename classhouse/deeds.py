@@ -1,5 +1,6 @@
 """Deeds with tries and lasts: what they do, and the codes that do the same (point 36)."""
 
+from classhouse.coders import Coder
 from classhouse.deedforms import check_deeds, handlers_of, need_of
 from classhouse.errors import BadIns, TooMany
 from classhouse.houses import House
@@ -115,27 +116,6 @@ def steps_needed(deeds):
     return 2 + need_of(deeds, 0)
 
 
-class Coder:
-    """A code that grows, and its rows of handlers."""
-
-    def __init__(self):
-        self.code = []
-        self.rows = []
-
-    def here(self):
-        """The place of the next step."""
-        return len(self.code)
-
-    def lay_gap(self):
-        """Lays a step that is told later, and returns its place."""
-        self.code.append(None)
-        return len(self.code) - 1
-
-    def fill(self, gap, word):
-        """Tells the step at a gap, whose goal is the next step."""
-        self.code[gap] = (word, self.here())
-
-
 def lay_deeds(coder, deeds, mores):
     """Lays the code of deeds; mores are those of the lasts in whose deeds they stand, the innermost first."""
     for deed in deeds:
@@ -206,7 +186,7 @@ def deeds_house(deeds):
         raise TooMany(MOST_STEPS)
     if handlers_of(deeds) > MOST_HANDLERS:
         raise TooMany(MOST_HANDLERS)
-    coder = Coder()
+    coder = Coder(False)
     lay_deeds(coder, deeds, ())
     coder.code.extend([("push", 0), ("give",)])
     method = ("main", ("num", "num", "num"), "num", tuple(coder.code), tuple(coder.rows))

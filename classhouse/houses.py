@@ -45,12 +45,12 @@ def are_fields(classes, upper, fields):
     return True
 
 
-def is_method(classes, upper, words, method):
-    """Tells whether a value is a method of a class right below upper, but for its code and handlers.
+def is_method(classes, upper, words, method, parts):
+    """Tells whether a value is a method of a class right below upper, but for what stands behind its out.
 
-    words are those of the earlier methods of the class.
+    words are those of the earlier methods of the class, parts is how many things a method has.
     """
-    if not is_tuple(method, 5, 5) or not is_word(method[0]) or method[0] in words:
+    if not is_tuple(method, parts, parts) or not is_word(method[0]) or method[0] in words:
         return False
     word, ins, out = method[:3]
     if not is_tuple(ins, 0, 3) or not all([is_told_kind(classes, kind) for kind in ins]):
@@ -62,14 +62,14 @@ def is_method(classes, upper, words, method):
     return nearest_method(classes, upper, word)[1:3] == (ins, out)
 
 
-def check_methods(classes, index):
-    """Raises BadMethods unless the methods of the class can stand, but for their codes and handlers."""
+def check_methods(classes, index, parts):
+    """Raises BadMethods unless the methods of the class can stand, but for what stands behind their outs."""
     _, upper, _, methods = classes[index]
     if not is_tuple(methods, 0, 4):
         raise BadMethods(index, None)
     words = []
     for place, method in enumerate(methods):
-        if not is_method(classes, upper, words, method):
+        if not is_method(classes, upper, words, method, parts):
             raise BadMethods(index, place)
         words.append(method[0])
 
@@ -89,13 +89,18 @@ def check_code(classes, index, place):
         raise BadHandlers(index, place, row)
 
 
-def check_classes(classes):
-    """Raises the first error of classes that make no house."""
+def check_shells(classes, parts):
+    """Raises the first error of classes, but for what stands behind the outs of their methods of so many parts."""
     check_names(classes)
     for index, row in enumerate(classes):
         if not are_fields(classes, row[1], row[2]):
             raise BadFields(index)
-        check_methods(classes, index)
+        check_methods(classes, index, parts)
+
+
+def check_classes(classes):
+    """Raises the first error of classes that make no house."""
+    check_shells(classes, 5)
     # Codes name fields and methods of whichever class, so all of those are looked at first.
     for index, row in enumerate(classes):
         for place in range(len(row[3])):

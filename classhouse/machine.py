@@ -18,8 +18,8 @@ class HadFault(Exception):
 class Machine:
     """A run: its things, and its frames, of which only the uppermost one is not yet a tuple as in states."""
 
-    def __init__(self, house):
-        self.house = house
+    def __init__(self, classes):
+        self.class_rows = classes
         self.things = []
         self.heap = []
         self.held = []
@@ -38,7 +38,7 @@ class Machine:
 
     def method(self):
         """The method of the uppermost frame."""
-        return method_at(self.house.classes, self.name, self.place)
+        return method_at(self.class_rows, self.name, self.place)
 
     def frame(self):
         """The uppermost frame as it stands in states."""
@@ -65,7 +65,7 @@ class Machine:
 
     def make_thing(self, name):
         """Makes a thing of a class, and returns it."""
-        pairs = fields_up(self.house.classes, name)
+        pairs = fields_up(self.class_rows, name)
         self.things.append(name)
         self.heap.append({word: 0 if kind == "num" else None for word, kind in pairs})
         self.held.append(0)
@@ -73,7 +73,7 @@ class Machine:
 
     def line_of_thing(self, thing):
         """The upward of the class of a thing."""
-        return line_up(self.house.classes, self.things[thing[1]])
+        return line_up(self.class_rows, self.things[thing[1]])
 
     def need(self, holds):
         """Goes wrong unless what the step needs holds."""
@@ -107,7 +107,7 @@ class Machine:
 
     def need_fit(self, value, kind):
         """Goes wrong unless a value fits a kind."""
-        self.need(does_value_fit(self.house.classes, self.things, value, kind))
+        self.need(does_value_fit(self.class_rows, self.things, value, kind))
 
     def throw(self, thing):
         """Throws a thing: the run goes on at a handler's goal, or ends."""
@@ -192,8 +192,9 @@ def do_get(machine, step):
 def do_put(machine, step):
     value = machine.take_off()
     thing = machine.take_thing(step[1])
-    machine.need_fit(value, field_kind(machine.house.classes, step[1], step[2]))
-    machine.heap[thing[1]][step[2]] = value
+    machine.need_fit(value, field_kind(machine.class_rows, step[1], step[2]))
+    # The fields of a thing are never changed in place, so that machines may share them.
+    machine.heap[thing[1]] = {**machine.heap[thing[1]], step[2]: value}
 
 
 def do_copy(machine, step):
@@ -242,7 +243,7 @@ def do_if(machine, step):
 
 
 def do_call(machine, step):
-    kinds = nearest_method(machine.house.classes, step[1], step[2])[1]
+    kinds = nearest_method(machine.class_rows, step[1], step[2])[1]
     values = []
     for _ in kinds:
         values.insert(0, machine.take_off())
@@ -250,7 +251,7 @@ def do_call(machine, step):
     for value, kind in zip(values, kinds):
         machine.need_fit(value, kind)
     machine.below.append(machine.frame())
-    name, place = nearest(machine.house.classes, machine.things[thing[1]], step[2])
+    name, place = nearest(machine.class_rows, machine.things[thing[1]], step[2])
     machine.go_into(name, place, (thing, *values))
 
 
@@ -343,7 +344,7 @@ def begun(house, name, word, ins):
     classes = house.classes
     if not are_ins(classes, name, nearest_method(classes, name, word)[1], ins):
         raise BadIns("the ins do not go with the method")
-    machine = Machine(house)
+    machine = Machine(classes)
     upper, place = nearest(classes, name, word)
     machine.go_into(upper, place, (machine.make_thing(name), *ins))
     return machine

@@ -15,7 +15,7 @@ FORMS = {
 }
 
 # The greatest numbers that a line may tell, however long its code is.
-GREATEST = {"number": 15, "local": 3, "step": 19, "end": 20}
+GREATEST = {"number": 15, "local": 3, "more": 3, "step": 19, "end": 20}
 
 
 def told(*parts):
@@ -23,12 +23,23 @@ def told(*parts):
     return " ".join([str(part) for part in parts])
 
 
+def shell_lines(row):
+    """The lines of a class ahead of its methods."""
+    name, upper, fields, _ = row
+    return [told("class", name, "under", upper)] + [told("field", *pair) for pair in fields]
+
+
+def head_line(method):
+    """The first line of a method."""
+    word, ins, out = method[:3]
+    return told("method", word, out, *ins)
+
+
 def method_lines(method):
     """The lines of a method."""
-    word, ins, out, code, handlers = method
-    lines = [told("method", word, out, *ins)]
-    lines.extend([told(*step) for step in code])
-    lines.extend([told("catch", *row) for row in handlers])
+    lines = [head_line(method)]
+    lines.extend([told(*step) for step in method[3]])
+    lines.extend([told("catch", *row) for row in method[4]])
     return lines
 
 
@@ -36,10 +47,9 @@ def write(house):
     """The text of a house."""
     check_house(house)
     lines = []
-    for name, upper, fields, methods in house.classes:
-        lines.append(told("class", name, "under", upper))
-        lines.extend([told("field", *pair) for pair in fields])
-        for method in methods:
+    for row in house.classes:
+        lines.extend(shell_lines(row))
+        for method in row[3]:
             lines.extend(method_lines(method))
     return "\n".join(lines)
 

@@ -250,3 +250,18 @@ def try_step(house, name, place, step, frame):
 def methods_in(house):
     """The pairs (class, place) of all methods of a house."""
     return [(row[0], place) for row in house.classes for place in range(len(row[3]))]
+
+
+# Classes of a book, with fields, methods and methods below them; a method "test" is added by book_with.
+PAGES = (
+    ("box", "top", (("x", "num"), ("y", "box"), ("z", "top")),
+     (("show", (), "num", (("give", ("num", 1)),)), ("hop", ("num", "box"), "box", (("give", ("at", 2)),)))),
+    ("red", "box", (("w", "egg"),), (("show", (), "num", (("give", ("num", 2)),)),)),
+    ("egg", "top", (("x", "egg"),), (("roll", ("num",), "num", (("give", ("at", 1)),)),)),
+)
+
+
+def pages_with(body, ins=(), out="num", name="box"):
+    """The classes of a book in which a class has as its last method one of the word "test"."""
+    method = ("test", ins, out, body)
+    return tuple([row[:3] + (row[3] + (method,),) if row[0] == name else row for row in PAGES])
