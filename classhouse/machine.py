@@ -40,14 +40,6 @@ class Machine:
         """The method of the uppermost frame."""
         return method_at(self.class_rows, self.name, self.place)
 
-    def frame(self):
-        """The uppermost frame as it stands in states."""
-        return self.name, self.place, self.step, tuple(self.cells), tuple(self.stack)
-
-    def state(self):
-        """The state of the run."""
-        return (*self.below, self.frame())
-
     def go_into(self, name, place, values):
         """Makes the uppermost frame one of this method, with values in its first locals."""
         self.name = name
@@ -123,6 +115,16 @@ class Machine:
             self.step = goal
             self.stack = [thing]
         self.thrown.append((self.done, line[0], ahead, 0 if goal is None else len(self.below) + 1))
+
+
+def frame_of(machine):
+    """The uppermost frame of a run as it stands in states."""
+    return machine.name, machine.place, machine.step, tuple(machine.cells), tuple(machine.stack)
+
+
+def state_of(machine):
+    """The state of a run that has not ended."""
+    return (*machine.below, frame_of(machine))
 
 
 def does_value_fit(classes, things, value, kind):
@@ -250,7 +252,7 @@ def do_call(machine, step):
     thing = machine.take_thing(step[1])
     for value, kind in zip(values, kinds):
         machine.need_fit(value, kind)
-    machine.below.append(machine.frame())
+    machine.below.append(frame_of(machine))
     name, place = nearest(machine.class_rows, machine.things[thing[1]], step[2])
     machine.go_into(name, place, (thing, *values))
 
@@ -348,3 +350,24 @@ def begun(house, name, word, ins):
     upper, place = nearest(classes, name, word)
     machine.go_into(upper, place, (machine.make_thing(name), *ins))
     return machine
+
+
+def machine_like(machine):
+    """A machine that stands as another one, and goes on by itself."""
+    other = Machine(machine.class_rows)
+    other.things = list(machine.things)
+    other.heap = list(machine.heap)
+    other.held = list(machine.held)
+    other.printed = list(machine.printed)
+    other.calls = list(machine.calls)
+    other.thrown = list(machine.thrown)
+    other.met = {spot: True for spot in machine.met}
+    other.done = machine.done
+    other.end = machine.end
+    other.below = list(machine.below)
+    other.name = machine.name
+    other.place = machine.place
+    other.step = machine.step
+    other.cells = list(machine.cells)
+    other.stack = list(machine.stack)
+    return other

@@ -3,7 +3,7 @@
 from classhouse.checks import check_word
 from classhouse.errors import NoMethod, NotPlain
 from classhouse.lookup import nearest, nearest_method
-from classhouse.steps import covers, goals_in, goals_of
+from classhouse.steps import covers, goals_in, led_to
 from classhouse.words import is_number, is_tuple
 
 MOST_HELD = 6
@@ -38,12 +38,6 @@ def plain_method(house, name, word):
     if not is_method_plain(method):
         raise NotPlain("an enter or a leave without its take")
     return method
-
-
-def led_to(method, index):
-    """The ascending list of the steps to which a step leads."""
-    goals = list(goals_of(method[3], index))
-    return sorted({goal for goal in goals + [handler[3] for handler in method[4] if covers(handler, index)]})
 
 
 def is_end(method, index):

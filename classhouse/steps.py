@@ -110,3 +110,9 @@ def goals_in(method):
     for handler in method[4]:
         goals.add(handler[3])
     return tuple(sorted(goals))
+
+
+def led_to(method, index):
+    """The ascending list of the steps to which a step of a method leads, by a fault, too."""
+    goals = list(goals_of(method[3], index))
+    return sorted({goal for goal in goals + [handler[3] for handler in method[4] if covers(handler, index)]})

@@ -1,7 +1,7 @@
 """The states of runs, and the methods and steps that runs meet (points 15 and 16)."""
 
 from classhouse.errors import BadCount
-from classhouse.machine import begun, do_step
+from classhouse.machine import begun, do_step, state_of
 from classhouse.words import is_alike, is_number
 
 
@@ -24,18 +24,18 @@ def behind(house, name, word, ins, many):
 def state_behind(house, name, word, ins, many):
     """The state of a run behind so many steps, None if it has ended by then."""
     machine = behind(house, name, word, ins, many)
-    return machine.state() if machine.end is None else None
+    return state_of(machine) if machine.end is None else None
 
 
 def trace(house, name, word, ins, many):
     """The list of the states of a run behind 0, 1 and so on steps, up to so many, or to the last one."""
     machine = begun_for(house, name, word, ins, many)
-    states = [machine.state()]
+    states = [state_of(machine)]
     while machine.done < many:
         do_step(machine)
         if machine.end is not None:
             return states
-        states.append(machine.state())
+        states.append(state_of(machine))
     return states
 
 
@@ -45,7 +45,7 @@ def shows_trace(house, name, word, ins, value):
     if not isinstance(value, (list, tuple)) or not value:
         return False
     for state in value:
-        if machine.end is not None or not is_alike(state, machine.state()):
+        if machine.end is not None or not is_alike(state, state_of(machine)):
             return False
         do_step(machine)
     return True

@@ -101,7 +101,7 @@ class LanguageTest(unittest.TestCase):
             for bound in bound_names(tree):
                 self.assertNotIn(bound, known | taken | set(BARRED_NAMES))
                 self.assertTrue(bound in classes or bound.isupper() or bound == bound.lower())
-                self.assertTrue(not bound.startswith("__") or bound in ("__init__", "__eq__"))
+                self.assertTrue(not bound.startswith("__") or bound in ("__init__", "__eq__", "__len__"))
                 if bound in classes:
                     self.assertEqual([*bound_names(tree)].count(bound), 1)
 
@@ -116,7 +116,7 @@ class LanguageTest(unittest.TestCase):
         for name, tree in self.each():
             for node in ast.walk(tree):
                 if isinstance(node, ast.Call) and isinstance(node.func, ast.Name):
-                    self.assertIn(node.func.id, own | BUILTINS | {"deed"})
+                    self.assertIn(node.func.id, own | BUILTINS | {"deed", "mend"})
                 elif isinstance(node, ast.Call):
                     self.assertIn(node.func.attr, own | METHODS | {"__init__"})
 
