@@ -49,13 +49,12 @@ def statement_need(statement):
     """How many values stand at most while a statement is done."""
     if statement[0] == "try" and not needs_step(statement[1]):
         return 0
-    needs = [body_need(body) for body in bodies_in(statement)]
-    return max([row_need(trees_in(statement)), 1 if statement[0] == "try" else 0, *needs])
+    return max([row_need(trees_in(statement)), *[body_need(body) for body in bodies_in(statement)]])
 
 
 def stack_need(book, index, place):
     """How many values stand on the stack at most while a method is done."""
-    # What a method gives stands there at its end, whatever is ahead.
+    # What a method gives or throws stands there alone at its end, as does a thing that is caught.
     return max(1, body_need(method_told(book, index, place)[3]))
 
 

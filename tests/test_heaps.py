@@ -177,7 +177,8 @@ class HoldTest(unittest.TestCase):
         holds = [("root", (0, 1)), ("ring", (2,), (2, 1))]
         for value in STRAY + [list(holds[0]), list(holds[1]), ("root", [0, 1]), ("ring", [2], (2, 1)),
                               ("ring", (2,), [2, 1]), ("root", (0, 1), (0, 1)), ("ring", (2, 1)), ("ring", (2,), (2, 1), ()),
-                              ("way", (0, 1)), ("root",), ("root", (False, 1)), ("root", (0, True)), ("root", (0, 9)),
+                              ("way", (0, 1)), ("root",), ("root", (False, 1)), ("root", (0, True)), ("root", (0, 9)), ("root", (0, 3)), ("root", (0, 3, 1)),
+                              ("root", (0, 4, 1)), ("ring", (3,), (2, 1)), ("ring", (2, 3), (2, 1)), ("ring", (2,), (3, 1)),
                               ("root", (0, -2)), ("root", ("0", 1)), ("ring", (2,), (2, True)), ("ring", (-1,), (2, 1)),
                               (["root"], (0, 1)), (0, 1), holds, {"root": (0, 1)}, ("none",)]:
             self.assertIs(shows_hold(HEAP, (0,), 1, value), False, value)
